@@ -10,6 +10,7 @@ import (
 
 	"dragoman/api"
 	"dragoman/pat"
+	"dragoman/pattest"
 )
 
 // P6.1: what a text says.
@@ -121,19 +122,6 @@ func TestParseBytes(t *testing.T) {
 	}
 }
 
-// allTexts calls f with each text of these signs up to a length.
-func allTexts(signs string, most int, f func(string)) {
-	texts := []string{""}
-	for i := 0; i < len(texts); i++ {
-		f(texts[i])
-		for _, c := range signs {
-			if len(texts[i]) < most {
-				texts = append(texts, texts[i]+string(c))
-			}
-		}
-	}
-}
-
 // checkError holds the error of a text against the grammar's own words.
 func checkError(t *testing.T, s string) {
 	p, e := Parse(s)
@@ -154,7 +142,9 @@ func TestParseAllTexts(t *testing.T) {
 		{"1()|_*", 6},
 		{"0^$|(", 6},
 	} {
-		allTexts(x.signs, x.most, func(s string) { checkError(t, s) })
+		for _, s := range pattest.Texts(x.most, x.signs) {
+			checkError(t, s)
+		}
 	}
 }
 
@@ -212,7 +202,7 @@ func TestParseTakes(t *testing.T) {
 		}
 		means := regexp.MustCompile(x.expression)
 		for _, l := range paths {
-			if got := pat.Match(p, l); got != means.MatchString(digits(l)) {
+			if got := pat.Match(p, l); got != means.MatchString(pattest.Digits(l)) {
 				t.Fatalf("%q at %v: %v", x.text, l, got)
 			}
 		}
@@ -538,7 +528,7 @@ func TestPrint(t *testing.T) {
 // P6.2: the texts of patterns by the document's words.
 func TestPrintByWords(t *testing.T) {
 	for _, p := range patterns(5000) {
-		want := "^" + printed(pruned(p), 0) + "$"
+		want := "^" + pattest.Printed(p, pattest.Signs{Between: "_", Open: "[", Close: "]"}) + "$"
 		if s, e := Print(p); s != want || e != api.OK {
 			t.Fatalf("Print(%v): %q %d, want %q", p, s, e, want)
 		}
@@ -635,19 +625,8 @@ func TestBackOfTexts(t *testing.T) {
 // Rule 4: what is handed in stays as it was, its spare room too.
 func TestArgumentsStay(t *testing.T) {
 	for _, p := range append(patterns(200), one(9, 12, 3, 3, 4, 4), api.Pat{Kind: 7}) {
-		var sets [][]api.Span
-		var subs [][]api.Pat
-		given := deepCopy(p, func(s []api.Span, l []api.Pat) { sets, subs = append(sets, s), append(subs, l) })
-		Print(given)
-		stays := same(given, p)
-		for _, s := range sets {
-			stays = stays && s[len(s)-1] == api.Span{Lo: 3, Hi: 4}
-		}
-		for _, s := range subs {
-			stays = stays && same(s[len(s)-1], num(77))
-		}
-		if !stays {
-			t.Fatalf("%v is now %v", p, given)
+		if !pattest.Stays(p, func(given api.Pat) { Print(given) }) {
+			t.Fatal(p)
 		}
 	}
 }
@@ -655,25 +634,9 @@ func TestArgumentsStay(t *testing.T) {
 // Rule 4: no two lists of what Parse answers share memory, nor do two answers.
 func TestParseIsNew(t *testing.T) {
 	for _, s := range []string{"", ".", "1+", "^1+$", "^.+$", "^(1_2)++$", "^(1|.)+?*$", "^!+$", "^([1-2]*)+_.+$", "^1?+|.?$", "._.|.", "^1_2_3_4_5$"} {
-		want, _ := Parse(s)
-		for i := range want.Subs {
-			got, e := Parse(s)
-			overwrite(got.Subs[i])
-			got.Subs[i] = want.Subs[i]
-			if e != api.OK || !same(got, want) {
-				t.Errorf("%q: part %d shares memory with another one", s, i)
-			}
+		if !pattest.New(func() api.Pat { p, _ := Parse(s); return p }) {
+			t.Errorf("%q", s)
 		}
-		got, _ := Parse(s)
-		overwrite(got)
-		if again, _ := Parse(s); !same(again, want) {
-			t.Errorf("%q: two answers share memory", s)
-		}
-	}
-	within, _ := Parse("^(1_2)++$")
-	overwrite(within.Subs[0].Subs[0])
-	if !same(within.Subs[0].Subs[1], starOf(cat(num(1), num(2)))) {
-		t.Error("parts of parts share memory")
 	}
 }
 

@@ -1,68 +1,41 @@
 package ipat
 
 import (
-	"math"
 	"math/rand/v2"
 	"regexp"
-	"slices"
 	"strconv"
-	"strings"
 
 	"dragoman/api"
+	"dragoman/pattest"
 )
 
-// one, num, cat, alt, star and anything write patterns; one's numbers are its spans' ends.
-func one(ends ...uint32) api.Pat {
-	p := api.Pat{Kind: api.One}
-	for i := 0; i+1 < len(ends); i += 2 {
-		p.Set = append(p.Set, api.Span{Lo: ends[i], Hi: ends[i+1]})
-	}
-	return p
-}
-func num(n uint32) api.Pat             { return one(n, n) }
-func cat(l ...api.Pat) api.Pat         { return api.Pat{Kind: api.Cat, Subs: l} }
-func alt(l ...api.Pat) api.Pat         { return api.Pat{Kind: api.Alt, Subs: l} }
-func starOf(p api.Pat) api.Pat         { return api.Pat{Kind: api.Star, Subs: []api.Pat{p}} }
-func anything() api.Pat                { return starOf(one(0, last)) }
-func plusOf(p api.Pat) api.Pat         { return cat(p, starOf(p)) }
-func maybeOf(p api.Pat) api.Pat        { return alt(p, cat()) }
-func amid(p api.Pat) api.Pat           { return cat(anything(), p, anything()) }
-func times(n int, p api.Pat) []api.Pat { return slices.Repeat([]api.Pat{p}, n) }
+// The patterns of the tests, written short.
+const last = pattest.Last
 
-// tower is a One within Stars, n deep in all.
-func tower(n int) api.Pat {
-	p := num(1)
-	for range n - 1 {
-		p = starOf(p)
-	}
-	return p
+var (
+	one, num   = pattest.One, pattest.Num
+	cat, alt   = pattest.Cat, pattest.Alt
+	starOf     = pattest.Star
+	plusOf     = pattest.Plus
+	maybeOf    = pattest.Maybe
+	times      = pattest.Row
+	tower      = pattest.Tower
+	same       = pattest.Same
+	shortPaths = pattest.Paths
+)
+
+// anything and amid are what stands about a pattern whose text has no ^ or $.
+func anything() api.Pat      { return starOf(one(0, last)) }
+func amid(p api.Pat) api.Pat { return cat(anything(), p, anything()) }
+
+// patterns is many right patterns (the same ones at each run).
+func patterns(n int) []api.Pat {
+	return pattest.Patterns(rand.New(rand.NewPCG(61, 62)).IntN, n)
 }
 
-// same says whether two patterns are one, nil and empty lists too.
-func same(a, b api.Pat) bool {
-	return a.Kind == b.Kind && slices.Equal(a.Set, b.Set) && slices.EqualFunc(a.Subs, b.Subs, same)
-}
-
-// shortPaths is all paths of these numbers up to a length.
-func shortPaths(most int, numbers ...uint32) [][]uint32 {
-	out := [][]uint32{nil}
-	for i := 0; i < len(out); i++ {
-		for _, n := range numbers {
-			if len(out[i]) < most {
-				out = append(out, append(slices.Clone(out[i]), n))
-			}
-		}
-	}
-	return out
-}
-
-// digits is a path of numbers below 10 as a text of them.
-func digits(path []uint32) string {
-	s := ""
-	for _, n := range path {
-		s += strconv.Itoa(int(n))
-	}
-	return s
+// wrongPatterns is patterns that aren't right, and some whose parts are more than can be gone through.
+func wrongPatterns() []api.Pat {
+	return append(pattest.Wrong(), pattest.Endless()...)
 }
 
 // said is a text of the grammar, the pattern that it says, and the same as the library's expression of texts of digits.
@@ -200,177 +173,4 @@ func errorByWords(s string) api.Errno {
 		}
 	}
 	return api.OK
-}
-
-// drawnSet is a set by chance, with spans that overlap, follow one another, and are empty.
-func drawnSet(chance *rand.Rand) []api.Span {
-	var out []api.Span
-	numbers := []uint32{0, 1, 2, 3, 5, last - 1, last}
-	for range chance.IntN(4) {
-		out = append(out, api.Span{Lo: numbers[chance.IntN(7)], Hi: numbers[chance.IntN(7)]})
-	}
-	return out
-}
-
-// drawn is a right pattern by chance, at most so deep.
-func drawn(chance *rand.Rand, deep int) api.Pat {
-	p := api.Pat{Kind: 1 + chance.IntN(4)}
-	if deep == 1 {
-		p.Kind = api.One
-	}
-	switch p.Kind {
-	case api.One:
-		p.Set = drawnSet(chance)
-	case api.Star:
-		p.Subs = []api.Pat{drawn(chance, deep-1)}
-	default:
-		for range chance.IntN(4) {
-			p.Subs = append(p.Subs, drawn(chance, deep-1))
-		}
-	}
-	return p
-}
-
-// patterns is many right patterns (the same ones at each run).
-func patterns(n int) []api.Pat {
-	chance := rand.New(rand.NewPCG(61, 62))
-	out := []api.Pat{cat(), alt(), one(), anything(), starOf(cat()), starOf(alt()), tower(5), maybeOf(cat()), alt(alt(), alt())}
-	for range n {
-		out = append(out, drawn(chance, 4))
-	}
-	return out
-}
-
-// wrongPatterns is patterns that aren't right, each in one way, and some whose parts are more than can be gone through.
-func wrongPatterns() []api.Pat {
-	doubled := num(1)
-	for range 62 {
-		doubled = cat(doubled, doubled)
-	}
-	knot := cat(cat(), cat())
-	knot.Subs[0], knot.Subs[1] = knot, knot
-	out := []api.Pat{
-		{},
-		{Kind: 5},
-		{Kind: -1},
-		{Kind: math.MaxInt},
-		{Kind: math.MinInt},
-		{Kind: api.One, Subs: []api.Pat{cat()}},
-		{Kind: api.One, Set: make([]api.Span, 257)},
-		{Kind: api.Cat, Set: make([]api.Span, 1)},
-		{Kind: api.Alt, Set: make([]api.Span, 1)},
-		{Kind: api.Star, Set: make([]api.Span, 1), Subs: []api.Pat{cat()}},
-		{Kind: api.Star},
-		{Kind: api.Star, Subs: []api.Pat{cat(), cat()}},
-		tower(41),
-		cat(times(200, cat())...),
-		doubled,
-		knot,
-	}
-	for _, p := range slices.Clone(out) {
-		out = append(out, starOf(p), cat(p), alt(p, num(1)), cat(num(1), p))
-	}
-	return out
-}
-
-// pruned is a pattern without the Cats and Alts that have just one part: that one stands at their place.
-func pruned(p api.Pat) api.Pat {
-	if p.Kind != api.Star && len(p.Subs) == 1 {
-		return pruned(p.Subs[0])
-	}
-	out := api.Pat{Kind: p.Kind, Set: p.Set}
-	for _, s := range p.Subs {
-		out.Subs = append(out.Subs, pruned(s))
-	}
-	return out
-}
-
-// printed is the text of a pattern that has been pruned; above is the kind of what holds it.
-func printed(p api.Pat, above int) string {
-	var texts []string
-	for _, s := range p.Subs {
-		texts = append(texts, printed(s, p.Kind))
-	}
-	asItem := above == api.Star || above == api.Cat
-	switch {
-	case p.Kind == api.Star:
-		return texts[0] + "*"
-	case p.Kind == api.Cat && asItem:
-		return "(" + strings.Join(texts, "_") + ")"
-	case p.Kind == api.Cat:
-		return strings.Join(texts, "_")
-	case p.Kind == api.Alt && len(texts) == 0:
-		return "!"
-	case p.Kind == api.Alt && (asItem || above == api.Alt):
-		return "(" + strings.Join(texts, "|") + ")"
-	case p.Kind == api.Alt:
-		return strings.Join(texts, "|")
-	}
-	return printedSet(p.Set)
-}
-
-// printedSet is the text of a set of the numbers that drawnSet has for ends, found by asking for each number.
-func printedSet(l []api.Span) string {
-	var texts []string
-	for _, ends := range inSet(l) {
-		low, high := strconv.FormatUint(ends[0], 10), strconv.FormatUint(ends[1], 10)
-		switch {
-		case ends[0] == 0 && ends[1] == last:
-			return "."
-		case low == high:
-			texts = append(texts, low)
-		default:
-			texts = append(texts, "["+low+"-"+high+"]")
-		}
-	}
-	switch len(texts) {
-	case 0:
-		return "!"
-	case 1:
-		return texts[0]
-	}
-	return "(" + strings.Join(texts, "|") + ")"
-}
-
-// inSet is the ends of the runs of numbers in a set whose ends are below 7, or above the last number but 3.
-func inSet(l []api.Span) [][2]uint64 {
-	asked := []uint64{0, 1, 2, 3, 4, 5, 6, last - 2, last - 1, last}
-	var out [][2]uint64
-	run := false
-	for _, n := range asked {
-		in := slices.ContainsFunc(l, func(s api.Span) bool { return uint64(s.Lo) <= n && n <= uint64(s.Hi) })
-		switch {
-		case in && run:
-			out[len(out)-1][1] = n
-		case in:
-			out = append(out, [2]uint64{n, n})
-		}
-		run = in
-	}
-	return out
-}
-
-// overwrite fills all lists of a pattern with something else, their spare room too.
-func overwrite(p api.Pat) {
-	for _, s := range p.Subs {
-		overwrite(s)
-	}
-	for i := range p.Set[:cap(p.Set)] {
-		p.Set[:cap(p.Set)][i] = api.Span{Lo: 99, Hi: 99}
-	}
-	for i := range p.Subs[:cap(p.Subs)] {
-		p.Subs[:cap(p.Subs)][i] = num(99)
-	}
-}
-
-// deepCopy is the same pattern in new memory; each list has spare room with something in it, and room gets it whole.
-func deepCopy(p api.Pat, room func([]api.Span, []api.Pat)) api.Pat {
-	subs := make([]api.Pat, 0, len(p.Subs)+1)
-	for _, s := range p.Subs {
-		subs = append(subs, deepCopy(s, room))
-	}
-	wholeSet := append(slices.Clone(p.Set), api.Span{Lo: 3, Hi: 4})
-	wholeSubs := append(subs, num(77))
-	room(wholeSet, wholeSubs)
-	return api.Pat{Kind: p.Kind, Set: wholeSet[:len(p.Set)], Subs: wholeSubs[:len(p.Subs)]}
 }

@@ -7,46 +7,27 @@ import (
 	"testing"
 
 	"dragoman/api"
+	"dragoman/pattest"
+)
+
+// The patterns of the tests, written short.
+var (
+	one, num = pattest.One, pattest.Num
+	cat, alt = pattest.Cat, pattest.Alt
+	star     = pattest.Star
+	times    = pattest.Row
+	tower    = pattest.Tower
+	same     = pattest.Same
 )
 
 // set writes spans as their ends: set(1, 2, 5, 7) is {1 2} {5 7}.
-func set(ends ...uint32) []api.Span {
-	var out []api.Span
-	for i := 0; i+1 < len(ends); i += 2 {
-		out = append(out, api.Span{Lo: ends[i], Hi: ends[i+1]})
-	}
-	return out
-}
-
-// one, cat, alt and star write patterns.
-func one(ends ...uint32) api.Pat { return api.Pat{Kind: api.One, Set: set(ends...)} }
-func num(n uint32) api.Pat       { return one(n, n) }
-func cat(l ...api.Pat) api.Pat   { return api.Pat{Kind: api.Cat, Subs: l} }
-func alt(l ...api.Pat) api.Pat   { return api.Pat{Kind: api.Alt, Subs: l} }
-func star(p api.Pat) api.Pat     { return api.Pat{Kind: api.Star, Subs: []api.Pat{p}} }
-
-// times writes a list of one pattern n times.
-func times(n int, p api.Pat) []api.Pat { return slices.Repeat([]api.Pat{p}, n) }
-
-// tower is a One within Stars, n deep in all.
-func tower(n int) api.Pat {
-	p := num(1)
-	for range n - 1 {
-		p = star(p)
-	}
-	return p
-}
+func set(ends ...uint32) []api.Span { return one(ends...).Set }
 
 // path writes a path.
 func path(l ...uint32) []uint32 { return l }
 
 // run is a path of one number n times.
 func run(n int, of uint32) []uint32 { return slices.Repeat([]uint32{of}, n) }
-
-// same says whether two patterns are one, nil and empty lists too.
-func same(a, b api.Pat) bool {
-	return a.Kind == b.Kind && slices.Equal(a.Set, b.Set) && slices.EqualFunc(a.Subs, b.Subs, same)
-}
 
 // placed is a part and how deep it stands.
 type placed struct {
@@ -112,90 +93,14 @@ func takesByWords(p api.Pat, l []uint32) bool {
 	return false
 }
 
-// numbers is what the drawn patterns' sets tell apart.
-func numbers() []uint32 { return []uint32{0, 1, 2, last} }
-
-// shortPaths is all paths of these numbers up to a length.
+// shortPaths is all paths of some numbers that drawn sets tell apart, up to a length.
 func shortPaths(most int) [][]uint32 {
-	out := [][]uint32{nil}
-	for i := 0; i < len(out); i++ {
-		for _, n := range numbers() {
-			if len(out[i]) < most {
-				out = append(out, append(slices.Clone(out[i]), n))
-			}
-		}
-	}
-	return out
-}
-
-// drawnSet is a set by chance, with spans that overlap, and that are empty.
-func drawnSet(chance *rand.Rand) []api.Span {
-	var out []api.Span
-	for range chance.IntN(3) {
-		n, m := numbers()[chance.IntN(4)], numbers()[chance.IntN(4)]
-		out = append(out, api.Span{Lo: n, Hi: m})
-	}
-	return out
-}
-
-// drawn is a right pattern by chance, at most so deep.
-func drawn(chance *rand.Rand, deep int) api.Pat {
-	kind := 1 + chance.IntN(4)
-	if deep == 1 {
-		kind = api.One
-	}
-	p := api.Pat{Kind: kind}
-	switch kind {
-	case api.One:
-		p.Set = append(drawnSet(chance), api.Span{Lo: uint32(chance.IntN(3)), Hi: 2})
-		if chance.IntN(8) == 0 {
-			p.Set = drawnSet(chance)
-		}
-	case api.Star:
-		p.Subs = []api.Pat{drawn(chance, deep-1)}
-	default:
-		for range chance.IntN(4) {
-			p.Subs = append(p.Subs, drawn(chance, deep-1))
-		}
-	}
-	return p
+	return pattest.Paths(most, 0, 1, 2, last)
 }
 
 // patterns is many right patterns (the same ones at each run).
 func patterns(n int) []api.Pat {
-	chance := rand.New(rand.NewPCG(5, 6))
-	out := []api.Pat{cat(), alt(), one(), Any(), star(cat()), star(alt()), star(star(num(1))), star(Any())}
-	for range n {
-		out = append(out, drawn(chance, 4))
-	}
-	return out
-}
-
-// wrongPatterns is patterns that aren't right, each in one way.
-func wrongPatterns() []api.Pat {
-	wide := make([]api.Span, 257)
-	out := []api.Pat{
-		{},
-		{Kind: 5},
-		{Kind: -1},
-		{Kind: math.MaxInt},
-		{Kind: math.MinInt},
-		{Kind: api.One, Subs: []api.Pat{cat()}},
-		{Kind: api.One, Set: wide},
-		{Kind: api.Cat, Set: set(1, 1)},
-		{Kind: api.Alt, Set: set(1, 1)},
-		{Kind: api.Alt, Set: set(2, 1)},
-		{Kind: api.Star, Set: set(1, 1), Subs: []api.Pat{cat()}},
-		{Kind: api.Star},
-		{Kind: api.Star, Subs: []api.Pat{cat(), cat()}},
-		tower(41),
-		cat(times(200, cat())...),
-		alt(times(200, Any())...),
-	}
-	for _, p := range slices.Clone(out) {
-		out = append(out, star(p), cat(cat(), p), alt(p, Any()))
-	}
-	return out
+	return pattest.Patterns(rand.New(rand.NewPCG(5, 6)).IntN, n)
 }
 
 // P5.1: Size.
@@ -220,7 +125,7 @@ func TestSize(t *testing.T) {
 			t.Errorf("Size(%v): %d %d, want %d %d", x.p, parts, deep, x.parts, x.deep)
 		}
 	}
-	for _, p := range append(patterns(500), wrongPatterns()...) {
+	for _, p := range append(patterns(500), pattest.Wrong()...) {
 		all := allParts(p)
 		if parts, deep := Size(p); parts != len(all) || deep != all[len(all)-1].deep {
 			t.Fatalf("Size(%v): %d %d, want %d %d", p, parts, deep, len(all), all[len(all)-1].deep)
@@ -270,37 +175,21 @@ func TestRight(t *testing.T) {
 			t.Errorf("%d: Right: %v", i, got)
 		}
 	}
-	for _, p := range wrongPatterns() {
+	for _, p := range pattest.Wrong() {
 		if Right(p) {
 			t.Errorf("Right(%v)", p)
 		}
 	}
-	for _, p := range append(patterns(500), wrongPatterns()...) {
+	for _, p := range append(patterns(500), pattest.Wrong()...) {
 		if got := Right(p); got != rightByWords(p) {
 			t.Fatalf("Right(%v): %v", p, got)
 		}
 	}
 }
 
-// endless is patterns whose parts, by memory that is shared, are more than can be gone through.
-func endless() []api.Pat {
-	doubled := num(1)
-	for range 62 {
-		doubled = cat(doubled, doubled)
-	}
-	knot, knots := star(cat()), cat(cat(), cat())
-	knot.Subs[0] = knot
-	knots.Subs[0], knots.Subs[1] = knots, knots
-	short := num(1)
-	for range 30 {
-		short = alt(short, short)
-	}
-	return []api.Pat{doubled, knot, knots, short}
-}
-
 // P1: what isn't right is told soon, however much stands in it.
 func TestEndless(t *testing.T) {
-	for i, p := range endless() {
+	for i, p := range pattest.Endless() {
 		_, e := Times(p, 1, 1)
 		if Right(p) || Empty(p) || Match(p, path(1)) || e != api.ErrForm {
 			t.Error(i)
@@ -461,7 +350,7 @@ func TestMatchTooLong(t *testing.T) {
 
 // P5.1: what isn't right takes nothing, though a part of it would.
 func TestWrongTakesNothing(t *testing.T) {
-	wrong := append(wrongPatterns(),
+	wrong := append(pattest.Wrong(),
 		alt(cat(), star(Any()), api.Pat{}),
 		alt(star(Any()), api.Pat{Kind: api.One, Set: make([]api.Span, 257)}),
 		api.Pat{Kind: api.Cat, Set: set(1, 1)},
@@ -775,90 +664,46 @@ func TestTimesCounts(t *testing.T) {
 	}
 }
 
-// roomy is a pattern in new memory, all of whose lists have spare room with something in it; room gets the lists, whole.
-func roomy(p api.Pat, room func([]api.Span, []api.Pat)) api.Pat {
-	subs := make([]api.Pat, 0, len(p.Subs)+1)
-	for _, s := range p.Subs {
-		subs = append(subs, roomy(s, room))
-	}
-	wholeSet := slices.Concat(p.Set, set(3, 4))
-	wholeSubs := append(subs, num(77))
-	room(wholeSet, wholeSubs)
-	return api.Pat{Kind: p.Kind, Set: wholeSet[:len(p.Set)], Subs: wholeSubs[:len(p.Subs)]}
-}
-
-// deepCopy is the same pattern in new memory.
-func deepCopy(p api.Pat) api.Pat {
-	return roomy(p, func([]api.Span, []api.Pat) {})
-}
-
 // Rule 4: what is handed in stays as it was, its spare room too.
 func TestArgumentsStay(t *testing.T) {
 	for _, p := range patterns(100) {
-		var sets [][]api.Span
-		var subs [][]api.Pat
-		given := roomy(p, func(s []api.Span, l []api.Pat) { sets, subs = append(sets, s), append(subs, l) })
 		l := append(make([]uint32, 0, 9), 1, 2, 1)
-		Size(given)
-		Right(given)
-		Match(given, l)
-		Empty(given)
-		got, _ := Times(given, 1, 3)
-		overwrite(got)
-		stays := same(given, p) && slices.Equal(l[:9], path(1, 2, 1, 0, 0, 0, 0, 0, 0))
-		for _, s := range sets {
-			stays = stays && s[len(s)-1] == api.Span{Lo: 3, Hi: 4}
+		stays := pattest.Stays(p, func(given api.Pat) {
+			Size(given)
+			Right(given)
+			Match(given, l)
+			Empty(given)
+			got, _ := Times(given, 1, 3)
+			pattest.Overwrite(got)
+		})
+		if !stays || !slices.Equal(l[:9], path(1, 2, 1, 0, 0, 0, 0, 0, 0)) {
+			t.Fatal(p, l[:9])
 		}
-		for _, s := range subs {
-			stays = stays && same(s[len(s)-1], num(77))
-		}
-		if !stays {
-			t.Fatalf("%v is now %v, its path %v", p, given, l[:9])
-		}
-	}
-}
-
-// overwrite fills all lists of a pattern with something else, their spare room too.
-func overwrite(p api.Pat) {
-	for _, s := range p.Subs {
-		overwrite(s)
-	}
-	for i := range p.Set[:cap(p.Set)] {
-		p.Set[:cap(p.Set)][i] = api.Span{Lo: 99, Hi: 99}
-	}
-	for i := range p.Subs[:cap(p.Subs)] {
-		p.Subs[:cap(p.Subs)][i] = num(99)
 	}
 }
 
 // Rule 4: no two parts of what Times answers share memory, nor does it with its argument.
 func TestTimesIsNew(t *testing.T) {
 	shared := num(5)
-	p := deepCopy(cat(shared, star(shared), alt(num(6), cat(num(7)))))
+	p := pattest.Copied(cat(shared, star(shared), alt(num(6), cat(num(7)))))
 	p.Subs[1].Subs[0].Set = p.Subs[0].Set
 	for _, x := range [][2]int{{3, 3}, {0, 3}, {2, 4}, {2, -1}} {
-		want, _ := Times(deepCopy(p), x[0], x[1])
-		for i := range want.Subs {
-			got, _ := Times(p, x[0], x[1])
-			overwrite(got.Subs[i])
-			got.Subs[i] = want.Subs[i]
-			if !same(got, want) {
-				t.Errorf("%v: part %d shares memory with another one", x, i)
-			}
+		if !pattest.New(func() api.Pat { got, _ := Times(p, x[0], x[1]); return got }) {
+			t.Errorf("%v: parts share memory", x)
 		}
 		got, _ := Times(p, x[0], x[1])
 		first := got.Subs[0]
 		for first.Kind == api.Alt {
 			first = first.Subs[0]
 		}
-		overwrite(first.Subs[0])
+		pattest.Overwrite(first.Subs[0])
 		if !same(first.Subs[1], star(shared)) {
 			t.Errorf("%v: two lists that shared memory still do", x)
 		}
 	}
 	got, _ := Times(p, 1, 2)
-	want := deepCopy(got)
-	overwrite(p)
+	want := pattest.Copied(got)
+	pattest.Overwrite(p)
 	if !same(got, want) {
 		t.Error("the answer shares memory with the argument")
 	}
