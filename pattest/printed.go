@@ -57,7 +57,7 @@ func (s Signs) printed(p api.Pat, above int) string {
 // printedSet is the text of a set whose spans begin and end as those of drawn patterns.
 func (s Signs) printedSet(l []api.Span) string {
 	var texts []string
-	for _, x := range runs(l) {
+	for _, x := range Runs(l) {
 		low, high := strconv.FormatUint(uint64(x.Lo), 10), strconv.FormatUint(uint64(x.Hi), 10)
 		switch {
 		case x.Lo == 0 && x.Hi == Last:
@@ -77,8 +77,8 @@ func (s Signs) printedSet(l []api.Span) string {
 	return "(" + strings.Join(texts, "|") + ")"
 }
 
-// runs is the runs of numbers in such a set, found by asking for each number at which one could begin or end.
-func runs(l []api.Span) []api.Span {
+// Runs is the one form of a set whose spans begin and end as those of drawn patterns, found by asking for each number at which one could begin or end.
+func Runs(l []api.Span) []api.Span {
 	asked := []uint32{0, 1, 2, 3, 4, 5, 6, Last - 2, Last - 1, Last}
 	var out []api.Span
 	run := false
